@@ -1,0 +1,1 @@
+"""Bounded repair between two text formats."""
