@@ -1,6 +1,6 @@
 """Basic values: integers, letters, texts, names, and the words of a line."""
 
-from formatrepair.errors import InvalidInteger, InvalidLine
+from formatrepair.errors import InvalidInteger, InvalidLine, InvalidText
 
 LONGEST_NAME = 8
 MOST_DIGITS = 30
@@ -34,6 +34,25 @@ def is_list(value):
 def is_index(value, size):
     """Return whether the value is an integer from 0 to size - 1."""
     return is_integer(value) and 0 <= value < size
+
+
+def is_grid(value, height, width):
+    """Return whether the value is a list of so many rows, each a list of so many items."""
+    if not is_list(value) or len(value) != height:
+        return False
+    return all([is_list(row) and len(row) == width for row in value])
+
+
+def require_integer(value, least, most):
+    """Raise InvalidInteger if the value is not an integer within the bounds; None is no bound."""
+    if not is_integer(value) or value < least or (most is not None and value > most):
+        raise InvalidInteger(value)
+
+
+def require_text(value):
+    """Raise InvalidText if the value is not a text."""
+    if not is_text(value):
+        raise InvalidText(value)
 
 
 def parse_count(text, *, minimum=0, maximum=None):

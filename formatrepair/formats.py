@@ -1,8 +1,8 @@
 """Formats: sets of texts, each kept as its smallest table."""
 
-from formatrepair.basics import is_index, is_letter, is_text
+from formatrepair.basics import is_index, is_letter, require_text
 from formatrepair.errors import InvalidFormat, InvalidInteger, InvalidLetter, InvalidList
-from formatrepair.errors import InvalidTable, InvalidText, UnknownName
+from formatrepair.errors import InvalidTable, UnknownName
 from formatrepair.expressions import parse_expression, require_tree, words_of
 from formatrepair.nets import joined_nets, maybe_net, some_net, table_net, table_of, tree_net
 from formatrepair.tables import are_states, has_circle, is_rows, paired_table, smallest_table
@@ -70,8 +70,7 @@ class Format:
 
     def contains(self, text):
         """Return whether a text is in the format."""
-        if not is_text(text):
-            raise InvalidText(text)
+        require_text(text)
         return not self.is_empty() and self.state_after(text) in self._accepting
 
     def __contains__(self, text):
@@ -79,8 +78,7 @@ class Format:
 
     def state_after(self, text, *, start=0):
         """Return the state that a text leads to from the start, or None."""
-        if not is_text(text):
-            raise InvalidText(text)
+        require_text(text)
         if not is_index(start, len(self._rows)):
             raise InvalidInteger(start)
         state = start
@@ -95,8 +93,7 @@ class Format:
 
     def _paired(self, other):
         """Return a table that reads both formats at once, as paired_table does."""
-        if not isinstance(other, Format):
-            raise InvalidFormat(other)
+        require_format(other)
         return paired_table(self._rows, self._accepting, other._rows, other._accepting)
 
     def __or__(self, other):
@@ -130,8 +127,7 @@ class Format:
 
     def followed_by(self, other):
         """Return the format of the texts of this one joined with a text of the other one."""
-        if not isinstance(other, Format):
-            raise InvalidFormat(other)
+        require_format(other)
         one = table_net(self._rows, self._accepting)
         rows, accepting = table_of(joined_nets(one, table_net(other._rows, other._accepting)))
         return Format(rows, accepting)
@@ -141,3 +137,9 @@ class Format:
         one = table_net(self._rows, self._accepting)
         rows, accepting = table_of(maybe_net(some_net(one)))
         return Format(rows, accepting)
+
+
+def require_format(value):
+    """Raise InvalidFormat if the value is not a Format."""
+    if not isinstance(value, Format):
+        raise InvalidFormat(value)

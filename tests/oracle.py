@@ -1,5 +1,7 @@
-"""The meaning of trees and tables, worked out text by text, without the package."""
+"""The meaning of trees, tables, prices and scripts, worked out without the package."""
 
+from functools import lru_cache
+from heapq import heappop, heappush
 from itertools import product
 
 
@@ -84,3 +86,86 @@ def faults_of_smallest(rows, accepting):
     if order != list(range(size)):
         faults.append(f"the states are numbered as {order}")
     return faults
+
+
+ENDLESS = 10 ** 6
+
+
+def chain_costs(alphabet, price):
+    """Return the least sums of prices from symbol to symbol, ENDLESS where there is no chain."""
+    symbols = ["", *alphabet]
+    costs = {(x, y): 0 if x == y else ENDLESS for x in symbols for y in symbols}
+    for _ in symbols:
+        for x, y, z in product(symbols, repeat=3):
+            if y != z and price(y, z) is not None:
+                costs[x, z] = min(costs[x, z], costs[x, y] + price(y, z))
+    return costs
+
+
+def number_or_none(cost):
+    return None if cost >= ENDLESS else cost
+
+
+def script_cost_between(costs, source, target):
+    """Return the cost of the cheapest script from one text to another one, or None."""
+
+    @lru_cache(maxsize=None)
+    def least(i, j):
+        if i == j == 0:
+            return 0
+        ways = [ENDLESS]
+        if i:
+            ways.append(least(i - 1, j) + costs[source[i - 1], ""])
+        if j:
+            ways.append(least(i, j - 1) + costs["", target[j - 1]])
+        if i and j:
+            ways.append(least(i - 1, j - 1) + costs[source[i - 1], target[j - 1]])
+        return min(ways)
+
+    return number_or_none(least(len(source), len(target)))
+
+
+def least_cost_between(costs, sources, targets):
+    """Return the least cost of a script from one of the sources to one of the targets, or None."""
+    found = [script_cost_between(costs, source, target) for source in sources for target in targets]
+    return min((cost for cost in found if cost is not None), default=None)
+
+
+def chain_rows(text):
+    """Return the rows of a table that reads the letters of a text one after another."""
+    return [{letter: place + 1} for place, letter in enumerate(text)] + [{}]
+
+
+def table_costs(costs, one, ends, other, goals):
+    """Return the rows of the least costs from each two states of two tables to ends and goals, or None."""
+    found = [[0 if i in ends and j in goals else ENDLESS for j in range(len(other))] for i in range(len(one))]
+    changed = True
+    while changed:
+        changed = False
+        for i in reversed(range(len(one))):
+            for j in range(len(other)):
+                for x, behind in [("", i), *one[i].items()]:
+                    for y, end in [("", j), *other[j].items()]:
+                        if costs[x, y] + found[behind][end] < found[i][j]:
+                            found[i][j] = costs[x, y] + found[behind][end]
+                            changed = True
+    return [[number_or_none(cost) for cost in row] for row in found]
+
+
+def edit_costs(prices, source, longest):
+    """Return the least sums of the prices of single edits from a text to each text up to a length."""
+    alphabet = prices.alphabet()
+    found = {}
+    queue = [(0, source)]
+    while queue:
+        cost, text = heappop(queue)
+        if text in found:
+            continue
+        found[text] = cost
+        for place in range(len(text) + 1):
+            for old in {"", text[place:place + 1]}:
+                for new in ["", *alphabet]:
+                    after = text[:place] + new + text[place + len(old):]
+                    if old != new and len(after) <= longest and prices.price(old, new) is not None:
+                        heappush(queue, (cost + prices.price(old, new), after))
+    return found

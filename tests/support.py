@@ -2,8 +2,9 @@
 
 import unittest
 
-from formatrepair.errors import FormatError, InvalidText, NoScript
+from formatrepair.errors import FormatError, InvalidText, NoScript, UnknownLetter
 from formatrepair.formats import Format
+from formatrepair.prices import Prices
 
 
 class Case(unittest.TestCase):
@@ -17,6 +18,35 @@ class Case(unittest.TestCase):
         fields = list(vars(caught.exception).values())
         self.assertEqual(len(fields), 1)
         self.assertIs(fields[0], told)
+
+    def assert_unknown(self, letter, call, *values, **named):
+        """The call raises UnknownLetter with the letter of a text or of a format."""
+        with self.assertRaises(UnknownLetter) as caught:
+            call(*values, **named)
+        self.assertEqual(caught.exception.letter, letter)
+
+    def assert_found(self, error, told, call, values):
+        """The call raises the error; a letter that it tells need not be the very object."""
+        if error is UnknownLetter:
+            self.assert_unknown(told, call, *values)
+        else:
+            self.assert_raises(error, told, call, *values)
+
+    def assert_faults(self, call, good, faults):
+        """Each fault is raised where it is alone, and also where any later one is there, too.
+
+        A fault is a tuple of the place of an argument, a wrong value for it, the error and what it tells.
+        The faults are listed in the order in which the call finds them.
+        """
+        for number, (place, wrong, error, told) in enumerate(faults):
+            values = list(good)
+            values[place] = wrong
+            self.assert_found(error, told, call, values)
+            for later, other, _, _ in faults[number + 1:]:
+                if later != place:
+                    both = list(values)
+                    both[later] = other
+                    self.assert_found(error, told, call, both)
 
     def assert_fault(self, index, call, *values, **named):
         """The call raises the error with the number told, which is an integer."""
@@ -43,7 +73,7 @@ def other_values():
         list(range(110)), tuple(range(110)), {number: number for number in range(110)},
         wrapped(0, 8, lambda value: [value]), wrapped("a", 8, lambda value: (value,)),
         wrapped("a", 8, lambda value: {"a": value}),
-        Format([{"a": 0}], [0]), InvalidText("a"), NoScript(),
+        Format([{"a": 0}], [0]), Prices("ab", {("a", "b"): 1}), InvalidText("a"), NoScript(),
     ]
 
 

@@ -13,6 +13,26 @@ FUNCTIONS = {
         "parse_expression": "(text)", "expression_text": "(tree)", "is_tree": "(value)", "letters_of": "(tree)",
         "names_of": "(tree)", "with_names": "(tree, table)",
     },
+    "listing": {
+        "shortest_text": "(text_format)", "missing_text": "(one, other)", "count_texts": "(text_format, length)",
+        "texts": "(text_format, longest)", "first_texts": "(text_format, count)", "text_at": "(text_format, number)",
+        "number_of": "(text_format, text)",
+    },
+    "prices": {
+        "is_script": "(prices, value)", "script_source": "(prices, script)", "script_target": "(prices, script)",
+        "script_cost": "(prices, script)", "apply_edits": "(prices, text, edits)", "edits_of": "(prices, script)",
+    },
+    "repair": {
+        "cheapest_script": "(prices, source, target)", "remaining_costs": "(prices, source, target)",
+        "is_remaining": "(prices, source, target, value)", "repair": "(prices, text, text_format)",
+        "remaining_repairs": "(prices, text, text_format)",
+        "is_remaining_repair": "(prices, text, text_format, value)", "closest": "(prices, one, other)",
+    },
+    "matrices": {
+        "text_matrix": "(prices, text_format, text)", "letter_matrix": "(prices, text_format, letter)",
+        "insertion_matrix": "(prices, text_format)", "multiply_costs": "(one, other)", "shape_of": "(matrix)",
+        "multiply_shapes": "(one, other)", "is_stable": "(shape)", "grow": "(shape)",
+    },
 }
 METHODS = {
     "__init__": "(self, rows, accepting)", "rows": "(self)", "accepting": "(self)", "letters": "(self)",
@@ -21,6 +41,10 @@ METHODS = {
     "difference": "(self, other)", "is_within": "(self, other)", "followed_by": "(self, other)",
     "repeated": "(self)", "__contains__": "(self, text)", "__eq__": "(self, other)", "__or__": "(self, other)",
     "__and__": "(self, other)", "__sub__": "(self, other)",
+}
+PRICES_METHODS = {
+    "__init__": "(self, alphabet, table, *, default=None)", "alphabet": "(self)", "price": "(self, source, target)",
+    "cost": "(self, source, target)", "chain": "(self, source, target)", "__eq__": "(self, other)",
 }
 CLASS_METHODS = {"of_tree": "(cls, tree)", "parse": "(cls, text)"}
 
@@ -35,12 +59,26 @@ class Interface(unittest.TestCase):
                 self.assertEqual(str(inspect.signature(function)), signature)
                 self.assertEqual(function.__module__, module.__name__)
 
-    def test_methods_stand_in_the_class_itself(self):
-        module = importlib.import_module("formatrepair.formats")
-        self.assertEqual(module.Format.__module__, module.__name__)
-        own = vars(module.Format)
-        for name, signature in METHODS.items():
-            self.assertEqual(str(inspect.signature(own[name])), signature)
+    def test_texts_is_a_generator(self):
+        module = importlib.import_module("formatrepair.listing")
+        self.assertTrue(inspect.isgeneratorfunction(module.texts))
+
+    def own_parts(self, file, name, methods):
+        """Return what stands in a class itself, after a look at its methods."""
+        module = importlib.import_module(f"formatrepair.{file}")
+        self.assertEqual(getattr(module, name).__module__, module.__name__)
+        own = vars(getattr(module, name))
+        for method, signature in methods.items():
+            self.assertEqual(str(inspect.signature(own[method])), signature)
+        return own
+
+    def test_prices(self):
+        own = self.own_parts("prices", "Prices", PRICES_METHODS)
+        self.assertIsInstance(own["highest"], property)
+        self.assertIsNone(own["highest"].fset)
+
+    def test_formats(self):
+        own = self.own_parts("formats", "Format", METHODS)
         for name, signature in CLASS_METHODS.items():
             self.assertIsInstance(own[name], classmethod)
             self.assertEqual(str(inspect.signature(own[name].__func__)), signature)

@@ -56,6 +56,10 @@ def assigned_names(node):
     return []
 
 
+def is_yield(node):
+    return isinstance(node, (ast.Yield, ast.YieldFrom))
+
+
 class Files(unittest.TestCase):
 
     def test_names(self):
@@ -160,6 +164,30 @@ class Words(unittest.TestCase):
             if isinstance(node, ast.Constant):
                 self.assertNotIsInstance(node.value, (float, complex), name)
                 self.assertFalse(isinstance(node.value, str) and "%" in node.value, name)
+
+    def test_library_names_are_only_called(self):
+        for name, tree in TREES.items():
+            library = {part.name for node in tree.body if isinstance(node, ast.ImportFrom) and node.module in LIBRARY
+                       for part in node.names}
+            called = [node.func for node in ast.walk(tree) if isinstance(node, ast.Call) and not node.keywords]
+            for node in ast.walk(tree):
+                if isinstance(node, ast.Name) and node.id in library:
+                    self.assertIn(node, called, f"{name} {node.lineno}")
+
+    def test_generators_are_iterated_at_once(self):
+        generators = [node for _, node in FUNCTIONS if any(map(is_yield, ast.walk(node)))]
+        names = {node.name for node in generators}
+        self.assertIn("texts", names)
+        self.assertEqual(len([node for _, node in FUNCTIONS if node.name in names]), len(names))
+        iterated = [node.iter for _, node in NODES if isinstance(node, (ast.For, ast.comprehension))]
+        iterated += [node.value for _, node in NODES if isinstance(node, ast.YieldFrom)]
+        calls = [node.func for node in iterated if isinstance(node, ast.Call)
+                 and all(isinstance(value, (ast.Name, ast.Attribute, ast.Constant)) for value in node.args)]
+        for name, node in NODES:
+            if isinstance(node, ast.Name) and node.id in names:
+                self.assertIn(node, calls, f"{name} {node.lineno}")
+        for node in generators:
+            self.assertEqual([part for part in ast.walk(node) if isinstance(part, (ast.Try, ast.With))], [])
 
     def test_decorators(self):
         for name, node in NODES:
