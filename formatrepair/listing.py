@@ -7,7 +7,7 @@ texts of k letters that lead from the state to acceptance.
 from formatrepair.basics import require_integer
 from formatrepair.errors import MissingText, NotIncluded, TooMany
 from formatrepair.formats import require_format
-from formatrepair.tables import end_distances
+from formatrepair.tables import shortest_way
 
 LONGEST = 400
 MOST_TEXTS = 500
@@ -18,15 +18,7 @@ def shortest_text(text_format):
     require_format(text_format)
     if text_format.is_empty():
         return None
-    rows = text_format.rows()
-    distances = end_distances(rows, text_format.accepting())
-    letters = []
-    state = 0
-    for left in range(distances[0] - 1, -1, -1):
-        row = rows[state]
-        letters.append(min([letter for letter in row if distances[row[letter]] == left]))
-        state = row[letters[-1]]
-    return "".join(letters)
+    return shortest_way((text_format.rows(), text_format.accepting()), 0)
 
 
 def missing_text(one, other):

@@ -60,9 +60,14 @@ def require_cost_matrix(value):
         raise InvalidMatrix(value)
 
 
+def is_shape(value):
+    """Return whether the value is a shape."""
+    return is_square(value) and all([is_index(item, NEVER + 1) for row in value for item in row])
+
+
 def require_shape(value):
     """Raise InvalidMatrix if the value is not a shape."""
-    if not is_square(value) or not all([is_index(item, NEVER + 1) for row in value for item in row]):
+    if not is_shape(value):
         raise InvalidMatrix(value)
 
 
@@ -122,12 +127,26 @@ def least_greater(row, column):
 def is_stable(shape):
     """Return whether a shape equals its product with itself."""
     require_shape(shape)
-    return shape_product(shape, shape) == [list(row) for row in shape]
+    return is_stable_shape(shape)
+
+
+def is_stable_shape(shape):
+    """Return whether what is known to be a shape is stable."""
+    columns = flipped(shape)
+    for row in shape:
+        if [least_greater(row, column) for column in columns] != list(row):
+            return False
+    return True
 
 
 def grow(shape):
     """Return the shape of endless repetition of a stable shape."""
     if not is_stable(shape):
         raise NotStable(shape)
+    return grown_shape(shape)
+
+
+def grown_shape(shape):
+    """Return the shape of endless repetition of what is known to be a stable shape."""
     repeats = [GROWING if row[state] == SOME else row[state] for state, row in enumerate(shape)]
     return shape_product([[max(item, repeat) for item, repeat in zip(row, repeats)] for row in shape], shape)

@@ -48,6 +48,19 @@ def end_distances(rows, accepting):
     return distances
 
 
+def shortest_way(table, start):
+    """Return the first text that leads a table, in which there is one, from the start to acceptance."""
+    rows, accepting = table
+    distances = end_distances(rows, accepting)
+    letters = []
+    state = start
+    for left in range(distances[start] - 1, -1, -1):
+        row = rows[state]
+        letters.append(min([letter for letter in row if distances[row[letter]] == left]))
+        state = row[letters[-1]]
+    return "".join(letters)
+
+
 def stable_classes(rows, classes):
     """Split the classes of the states until those of one class accept the same texts."""
     many = 0

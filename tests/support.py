@@ -93,3 +93,12 @@ def with_tuples(value):
     if isinstance(value, (list, tuple)):
         return tuple(with_tuples(part) for part in value)
     return value
+
+
+def not_formats():
+    return [value for value in other_values() if not isinstance(value, Format)] + ["ab", 0, Format]
+
+
+def not_integers():
+    """Return values that are no integers."""
+    return [value for value in other_values() if type(value) is not int] + ["0", [0], (0,)]

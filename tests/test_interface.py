@@ -33,6 +33,19 @@ FUNCTIONS = {
         "insertion_matrix": "(prices, text_format)", "multiply_costs": "(one, other)", "shape_of": "(matrix)",
         "multiply_shapes": "(one, other)", "is_stable": "(shape)", "grow": "(shape)",
     },
+    "patterns": {
+        "is_pattern": "(value)", "pattern_length": "(pattern, times)", "pattern_text": "(pattern, times)",
+        "pattern_end": "(text_format, pattern, *, start=0)", "pattern_shape": "(prices, text_format, pattern)",
+    },
+    "bounds": {
+        "first_table_error": "(comparison, cost, table)", "expensive": "(comparison, cost)",
+        "cost_counts": "(comparison, length)", "costliest_text": "(comparison, length)",
+        "greatest_cost": "(comparison, longest)",
+    },
+    "onepass": {
+        "first_strategy_error": "(game, cost, strategy)", "first_plan_error": "(game, cost, plan)",
+        "force": "(game, cost, plan, answer)",
+    },
 }
 METHODS = {
     "__init__": "(self, rows, accepting)", "rows": "(self)", "accepting": "(self)", "letters": "(self)",
@@ -45,6 +58,15 @@ METHODS = {
 PRICES_METHODS = {
     "__init__": "(self, alphabet, table, *, default=None)", "alphabet": "(self)", "price": "(self, source, target)",
     "cost": "(self, source, target)", "chain": "(self, source, target)", "__eq__": "(self, other)",
+}
+COMPARISON_METHODS = {
+    "__init__": "(self, prices, first, second)", "prices": "(self)", "first": "(self)", "second": "(self)",
+    "__eq__": "(self, other)", "members": "(self)", "pattern_of": "(self, member)", "decision": "(self)",
+    "is_impossible": "(self, value)", "is_unbounded": "(self, value)",
+}
+ONE_PASS_METHODS = {
+    "__init__": "(self, comparison)", "comparison": "(self)", "end_costs": "(self)", "__eq__": "(self, other)",
+    "strategy": "(self, number)", "plan": "(self, number)", "decision": "(self)",
 }
 CLASS_METHODS = {"of_tree": "(cls, tree)", "parse": "(cls, text)"}
 
@@ -63,6 +85,11 @@ class Interface(unittest.TestCase):
         module = importlib.import_module("formatrepair.listing")
         self.assertTrue(inspect.isgeneratorfunction(module.texts))
 
+    def assert_property(self, own, name):
+        """What stands in a class has a property that cannot be assigned."""
+        self.assertIsInstance(own[name], property)
+        self.assertIsNone(own[name].fset)
+
     def own_parts(self, file, name, methods):
         """Return what stands in a class itself, after a look at its methods."""
         module = importlib.import_module(f"formatrepair.{file}")
@@ -74,13 +101,18 @@ class Interface(unittest.TestCase):
 
     def test_prices(self):
         own = self.own_parts("prices", "Prices", PRICES_METHODS)
-        self.assertIsInstance(own["highest"], property)
-        self.assertIsNone(own["highest"].fset)
+        self.assert_property(own, "highest")
+
+    def test_comparisons(self):
+        self.own_parts("comparisons", "Comparison", COMPARISON_METHODS)
+
+    def test_one_pass(self):
+        own = self.own_parts("onepass", "OnePass", ONE_PASS_METHODS)
+        self.assert_property(own, "least_cost")
 
     def test_formats(self):
         own = self.own_parts("formats", "Format", METHODS)
         for name, signature in CLASS_METHODS.items():
             self.assertIsInstance(own[name], classmethod)
             self.assertEqual(str(inspect.signature(own[name].__func__)), signature)
-        self.assertIsInstance(own["size"], property)
-        self.assertIsNone(own["size"].fset)
+        self.assert_property(own, "size")
