@@ -33,20 +33,23 @@ def least_costs(prices, one, other):
     return found
 
 
-def cheapest_way(prices, one, other):
-    """Return the least cost of a script between texts of two tables and such a script, or None."""
+def cheapest_way(prices, one, other, start=0):
+    """Return the least cost of a script between texts of two tables and such a script, or None.
+
+    The text of the other table leads on from the start.
+    """
     if len(one[0]) == 0 or len(other[0]) == 0:
         return None
     found, steps = searched(prices, one, other)
-    if found[0][0] is None:
+    if found[0][start] is None:
         return None
     script = []
-    step = steps[0][0]
+    step = steps[0][start]
     while step is not None:
         source, target, state, goal = step
         script.append((source, target))
         step = steps[state][goal]
-    return found[0][0], script
+    return found[0][start], script
 
 
 def searched(prices, one, other):

@@ -42,6 +42,11 @@ FUNCTIONS = {
         "cost_counts": "(comparison, length)", "costliest_text": "(comparison, length)",
         "greatest_cost": "(comparison, longest)",
     },
+    "formattexts": {
+        "write_format": "(text_format)", "read_format": "(text)", "write_prices": "(prices)", "read_prices": "(text)",
+        "write_script": "(script)", "read_script": "(text)", "write_pattern": "(pattern)", "read_pattern": "(text)",
+        "write_bounds": "(table)", "read_bounds": "(text)",
+    },
     "onepass": {
         "first_strategy_error": "(game, cost, strategy)", "first_plan_error": "(game, cost, plan)",
         "force": "(game, cost, plan, answer)",
@@ -67,6 +72,26 @@ COMPARISON_METHODS = {
 ONE_PASS_METHODS = {
     "__init__": "(self, comparison)", "comparison": "(self)", "end_costs": "(self)", "__eq__": "(self, other)",
     "strategy": "(self, number)", "plan": "(self, number)", "decision": "(self)",
+}
+REPAIRER_METHODS = {
+    "__init__": "(self, game, cost, strategy)", "__call__": "(self, letter)", "finish": "(self)", "text": "(self)",
+    "written": "(self)", "script": "(self)", "position": "(self)", "copied": "(self)", "into": "(self, other)",
+}
+RELAY_METHODS = {
+    "__call__": "(self, letter)", "finish": "(self)", "text": "(self)", "written": "(self)", "copied": "(self)",
+    "into": "(self, other)",
+}
+CATALOG_METHODS = {
+    "__init__": "(self, prices)", "prices": "(self)", "put": "(self, name, text)", "remove": "(self, name)",
+    "rename": "(self, name, other)", "names": "(self)", "expression": "(self, name)", "format_of": "(self, name)",
+    "uses": "(self, name)", "users": "(self, name)", "decision": "(self, old, new)", "one_pass": "(self, old, new)",
+    "cost": "(self, old, new)", "path_cost": "(self, names)", "undo": "(self)", "open_draft": "(self)", "keep": "(self)",
+    "drop": "(self)", "draft": "(self)", "in_draft": "(self, work)", "__len__": "(self)", "__contains__": "(self, value)",
+    "__eq__": "(self, other)",
+}
+SESSION_METHODS = {
+    "__init__": "(self, prices)", "execute": "(self, line)", "execute_all": "(self, lines)", "catalog": "(self)",
+    "__eq__": "(self, other)",
 }
 CLASS_METHODS = {"of_tree": "(cls, tree)", "parse": "(cls, text)"}
 
@@ -109,6 +134,19 @@ class Interface(unittest.TestCase):
     def test_one_pass(self):
         own = self.own_parts("onepass", "OnePass", ONE_PASS_METHODS)
         self.assert_property(own, "least_cost")
+
+    def test_repairers(self):
+        for name, methods in (("Repairer", REPAIRER_METHODS), ("Relay", RELAY_METHODS)):
+            own = self.own_parts("repairers", name, methods)
+            self.assert_property(own, "spent")
+            self.assert_property(own, "left")
+
+    def test_catalogs(self):
+        own = self.own_parts("catalogs", "Catalog", CATALOG_METHODS)
+        self.assert_property(own, "made")
+
+    def test_sessions(self):
+        self.own_parts("session", "Session", SESSION_METHODS)
 
     def test_formats(self):
         own = self.own_parts("formats", "Format", METHODS)
