@@ -40,7 +40,7 @@ def first_table_error(comparison, cost, table):
         for letter in row:
             if not is_covered(claims[row[letter]], reader.stepped(costs, letter)):
                 return ("letter", number, letter)
-        if reader.is_end(state) and not is_at_most(reader.cost(costs), cost):
+        if reader.is_end(state) and not is_at_most(reader.end_cost(costs), cost):
             return ("end", number)
     return None
 
@@ -78,7 +78,7 @@ def expensive(comparison, cost):
             ways[letter] = numbers[place]
         rows.append(ways)
     beyond = [number for number, (state, costs) in enumerate(places)
-              if reader.is_end(state) and reader.cost(costs) is None]
+              if reader.is_end(state) and reader.end_cost(costs) is None]
     return Format(rows, beyond)
 
 

@@ -1,18 +1,17 @@
 """Comparisons: what it costs at most to repair a text of one format into another format."""
 
 from formatrepair.basics import is_index, is_text
-from formatrepair.costrows import BeyondSearch, RowReader, StepCosts, ended_search
+from formatrepair.costrows import RowReader, StepCosts
+from formatrepair.decisions import copied_decision, decided
 from formatrepair.errors import EmptyFormat, InvalidComparison, InvalidMember, NotStable, TooMany
-from formatrepair.listing import shortest_text
 from formatrepair.matrices import GROWING, cost_matrix, is_shape, shape_of
 from formatrepair.members import MemberSearch, frozen
-from formatrepair.patterns import copied_pattern, is_pattern, pattern_end, pattern_shape
+from formatrepair.patterns import is_pattern, pattern_end, pattern_shape
 from formatrepair.prices import require_format_over, require_prices
 from formatrepair.searches import format_table, least_costs
 
 MOST_FIRST = 12
 MOST_SECOND = 6
-FIRST_EFFORT = 100
 
 
 class Comparison:
@@ -85,10 +84,10 @@ class Comparison:
         if not is_member_form(member):
             raise InvalidMember(member)
         start, end, shape = member
-        self._search.all_members()
-        if not self._search.has((start, end, frozen(shape))):
+        sought = (start, end, frozen(shape))
+        if not self._search.finds(sought):
             raise InvalidMember(member)
-        return self._search.pattern((start, end, frozen(shape)))
+        return self._search.pattern(sought)
 
     def decision(self):
         """Return whether and how far the texts of the first format can be repaired, with a certificate."""
@@ -142,47 +141,3 @@ def is_member_form(value):
     if not isinstance(value, tuple) or len(value) != 3:
         return False
     return is_index(value[0], MOST_FIRST) and is_index(value[1], MOST_FIRST) and is_shape(value[2])
-
-
-def decided(comparison, search):
-    """Return the decision of a comparison, which looks for its members by the search."""
-    text = ended_search(comparison.free_reader()).found()
-    if text is not None:
-        return ("impossible", text)
-    # Members show that there is no bound, and cost rows show that there is
-    # one. Either search alone can be long, so both go on in turn.
-    effort = FIRST_EFFORT
-    seen = 0
-    cutoff = 0
-    beyond = BeyondSearch(comparison.reader(cutoff))
-    while True:
-        members = search.first_members(effort)
-        for member in members[seen:]:
-            if comparison.shows_growth(member):
-                return ("unbounded", search.pattern(member))
-        seen = len(members)
-        if beyond.run(effort):
-            if beyond.found() is None:
-                return bounded_decision(comparison, beyond.greatest_cost())
-            cutoff = max(2 * cutoff, comparison.reader(None).cost_of(beyond.found()))
-            beyond = BeyondSearch(comparison.reader(cutoff))
-        effort = 2 * effort
-
-
-def bounded_decision(comparison, cost):
-    """Return the decision for the greatest cost of the texts."""
-    if cost == 0:
-        text = shortest_text(comparison.first())
-    else:
-        text = ended_search(comparison.reader(cost - 1)).found()
-    return ("bounded", cost, text, ended_search(comparison.reader(cost)).table())
-
-
-def copied_decision(decision):
-    """Return a decision that equals another one, with new lists."""
-    if decision[0] == "unbounded":
-        return ("unbounded", copied_pattern(decision[1]))
-    if decision[0] == "bounded":
-        kind, cost, text, table = decision
-        return (kind, cost, text, [(state, list(costs)) for state, costs in table])
-    return decision

@@ -86,18 +86,25 @@ class RowReader:
         """Return whether a text of the first format may end at the state."""
         return state in self._accepting
 
-    def cost(self, row):
+    def end_cost(self, row):
         """Return the cost of the text of a row that ends there, or None if it is beyond the cutoff."""
         return min([row[end] for end in self._known.goals if row[end] is not None], default=None)
 
-    def cost_of(self, text):
-        """Return the cost of a text of the first format."""
+    def situations(self, text):
+        """Return the list of the states and the rows before, between and behind the letters of a text."""
         state = 0
         row = self.first_row()
+        found = [(state, row)]
         for letter in text:
             state = self.first_rows[state][letter]
             row = self.next_row(row, letter, state)
-        return self.cost(row)
+            found.append((state, row))
+        return found
+
+    def cost_of(self, text):
+        """Return the cost of a text of the first format."""
+        _, row = self.situations(text)[-1]
+        return self.end_cost(row)
 
 
 def is_replaced(row, excess, there):
@@ -107,6 +114,12 @@ def is_replaced(row, excess, there):
             if cost + excess[here][there] <= row[there]:
                 return True
     return False
+
+
+def split_row(row):
+    """Return the least item of a cost row, or 0, and the row less this item."""
+    least = min([cost for cost in row if cost is not None], default=0)
+    return least, tuple([None if cost is None else cost - least for cost in row])
 
 
 def covers(greater, row):
@@ -146,8 +159,8 @@ class BeyondSearch:
         number = self._place
         self._place += 1
         state, row, _, _ = self._read[number]
-        if self._reader.is_end(state) and self._reader.cost(row) is None:
-            self._beyond = self._text(number)
+        if self._reader.is_end(state) and self._reader.end_cost(row) is None:
+            self._beyond = self._text_of(number)
             return
         ways = self._reader.first_rows[state]
         for letter in ways:
@@ -161,7 +174,7 @@ class BeyondSearch:
         self._greatest[state] = [other for other in self._greatest[state] if not covers(row, other)] + [row]
         self._read.append((state, row, before, letter))
 
-    def _text(self, number):
+    def _text_of(self, number):
         """Return the text with a number on the list of those that are read."""
         letters = []
         while number is not None:
@@ -177,10 +190,10 @@ class BeyondSearch:
         """Return the table of bounds that shows that no text is beyond the cutoff."""
         return [(state, list(row)) for state, rows in enumerate(self._greatest) for row in rows]
 
-    def greatest_cost(self):
+    def greatest_end_cost(self):
         """Return the greatest cost of a text if none is beyond the cutoff."""
         ends = [state for state in range(len(self._greatest)) if self._reader.is_end(state)]
-        return max([self._reader.cost(row) for state in ends for row in self._greatest[state]])
+        return max([self._reader.end_cost(row) for state in ends for row in self._greatest[state]])
 
 
 def ended_search(reader):

@@ -66,7 +66,7 @@ def next_level(rules, values, level):
     numbers = [0]
     for position in rules.positions():
         if position not in values:
-            numbers.extend([cost for cost in rules.ends(position) if cost is not None])
+            numbers.extend([end for end in rules.ends(position) if end is not None])
             for _, steps in rules.ways(position):
                 numbers.extend([price + values[behind] for behind, price in steps if behind in values])
     return min([number for number in numbers if number > level], default=None)
@@ -79,7 +79,7 @@ def kept_within(rules, values, level):
     among these positions is sure, too.
     """
     kept = [position for position in rules.positions()
-            if position not in values and not [cost for cost in rules.ends(position) if is_cheaper(level, cost)]]
+            if position not in values and not [end for end in rules.ends(position) if is_cheaper(level, end)]]
     many = len(kept) + 1
     while len(kept) < many:
         many = len(kept)
@@ -135,7 +135,7 @@ def best_plan(rules, values):
 def forcing_moves(rules, values, ranks, position):
     """Return the moves that force the value of a position, when only ranked positions are reached for nothing."""
     value = values.get(position)
-    moves = [None for cost in rules.ends(position) if not is_cheaper(cost, value)]
+    moves = [None for end in rules.ends(position) if not is_cheaper(end, value)]
     for letter, steps in rules.ways(position):
         escapes = [behind for behind, price in steps if (price == 0 and behind not in ranks)
                    or is_cheaper(cost_sum(price, values.get(behind)), value)]

@@ -96,8 +96,10 @@ class MemberSearch:
             self.first_members(2 * len(self._order) + 1)
         return list(self._order)
 
-    def has(self, member):
-        """Return whether a member has been found."""
+    def finds(self, member):
+        """Return whether this is a member; if it is, it has been found then."""
+        while self._waiting and member not in self._ways:
+            self.first_members(2 * len(self._order) + 1)
         return member in self._ways
 
     def pattern(self, member):

@@ -5,6 +5,7 @@ is a state of the first format and a row less its least item, the offset;
 what follows is worked out once for each place.
 """
 
+from formatrepair.costrows import split_row
 from formatrepair.costs import cost_sum, is_cheaper
 
 
@@ -16,16 +17,16 @@ class OffsetRows:
         self._places = []
         self._numbers = {}
         self._ways = {}
-        self._begin = self._numbered(0, reader.first_row())
+        self._start = self._numbered(0, reader.first_row())
 
     def _numbered(self, state, row):
         """Return the offset of a row and the number of its place."""
-        least = min([cost for cost in row if cost is not None], default=0)
-        place = (state, tuple([None if cost is None else cost - least for cost in row]))
+        offset, rest = split_row(row)
+        place = (state, rest)
         if place not in self._numbers:
             self._numbers[place] = len(self._places)
             self._places.append(place)
-        return least, self._numbers[place]
+        return offset, self._numbers[place]
 
     def _ways_from(self, number):
         """Return the list of the letters that may follow a place, each with the offset and the place behind it."""
@@ -43,12 +44,12 @@ class OffsetRows:
         for number in numbers:
             state, row = self._places[number]
             if self._reader.is_end(state):
-                ends[number] = self._reader.cost(row)
+                ends[number] = self._reader.end_cost(row)
         return ends
 
     def counts(self, length):
         """Return a dict from the costs of the texts of a length to the numbers of these texts."""
-        offset, number = self._begin
+        offset, number = self._start
         layer = {number: {offset: 1}}
         for _ in range(length):
             layer = self._counts_behind(layer)
@@ -73,7 +74,7 @@ class OffsetRows:
 
     def greatest(self, longest):
         """Return a list of the greatest cost of the texts up to a length, without items if there are no texts."""
-        offset, number = self._begin
+        offset, number = self._start
         layer = {number: offset}
         found = []
         for _ in range(longest + 1):
@@ -90,7 +91,7 @@ class OffsetRows:
     def costliest(self, length):
         """Return the first of the texts of a length whose cost is greatest, or None if there is no text."""
         rests = self._rests(length)
-        number = self._begin[1]
+        number = self._start[1]
         if number not in rests[0]:
             return None
         letters = []
@@ -106,7 +107,7 @@ class OffsetRows:
 
         Places from which no text has the length are left out.
         """
-        layers = [[self._begin[1]]]
+        layers = [[self._start[1]]]
         for _ in range(length):
             layers.append(sorted({way[1][1] for number in layers[-1] for way in self._ways_from(number)}))
         rests = [self._ends(layers[-1])]

@@ -122,7 +122,7 @@ def first_strategy_error(game, cost, strategy):
     if is_cheaper(cost, bounds.get(START)):
         return ("start",)
     for number, (state, here, bound, steps) in enumerate(strategy):
-        if [cost for cost in rules.ends((state, here)) if is_cheaper(bound, cost)]:
+        if [end for end in rules.ends((state, here)) if is_cheaper(bound, end)]:
             return ("end", number)
         for letter, ways in rules.ways((state, here)):
             good = [behind for behind, price in ways if behind[1] == steps.get(letter)

@@ -30,7 +30,7 @@ def is_pattern_within(value, room):
 
 def is_repetition(value):
     """Return whether the value is a tuple for a repetition, whatever is repeated."""
-    return isinstance(value, tuple) and len(value) == 2 and isinstance(value[0], str) and value[0] == REPEAT
+    return isinstance(value, tuple) and len(value) == 2 and value[0] == REPEAT
 
 
 def require_pattern(value):

@@ -91,6 +91,14 @@ class Forced(Case):
                 self.assertEqual(self.assert_forced(game, 1, plan, choose), found)
         self.assertEqual(force(answer=lambda text, letter: 1, plan=PLAN, cost=0, game=game), ("ab", 3))
 
+    def test_claims_that_occur_several_times(self):
+        # The first entries of the position claim least; the one with the greater rank goes on to the other.
+        game = OnePass(Comparison(ONE, Format.parse("(a|b)*"), Format.parse("b*")))
+        plan = [(0, 0, 0, 5, "b"), (0, 0, 0, 4, "a"), (0, 0, 1, 0, "a"), (0, 0, 2, 0, "a")]
+        self.assertEqual(self.assert_forced(game, 2, plan, min), ("aaba", 3))
+        self.assertEqual(self.assert_forced(game, 0, plan, min), ("ba", 1))
+        self.assertEqual(self.assert_forced(game, 0, plan[::-1], min), ("a", 1))
+
     def test_way_to_the_end(self):
         game = OnePass(Comparison(ONE, Format.parse("(ab)*abba"), Format.parse("b*")))
         self.assertIsNone(game.least_cost)

@@ -263,6 +263,8 @@ class Plans(Case):
         self.assertIsNone(first_plan_error(game, None, plan))
         flat = [entry[:3] + (0,) + entry[4:] for entry in plan]
         self.assertEqual(first_plan_error(game, None, flat), plan_error(game, None, flat))
+        self.assertEqual(first_plan_error(game, None, flat)[0], "step")
+        self.assertIsNone(first_plan_error(game, None, [entry[:3] + (entry[3] + HUGE - 9,) + entry[4:] for entry in plan]))
 
     def test_plans_of_another_form(self):
         game = example()
