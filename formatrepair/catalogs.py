@@ -104,8 +104,8 @@ class Catalog:
 
     def past(self):
         """Return the list of the earlier entries that can be undone, the latest ones last."""
-        # Changes are put here without a look at their number, so it is seen to here.
-        self._past = self._past[-MOST_CHANGES:]
+        # Changes are put into this list without a look at their number, so it is seen to here.
+        del self._past[:-MOST_CHANGES]
         return self._past
 
     def put(self, name, text):
